@@ -1,0 +1,1 @@
+"""Boxgalley: boxes and pages laid on a floor of cells."""
