@@ -1,4 +1,7 @@
-"""The package's files keep to the part of Python that the program is written in, as far as a look at them can tell."""
+"""The package's files keep to the part of Python that the program is written in: files, imports, forms, sizes, names.
+
+How sets, walks, keywords and handlers are used (L13, L19, L22 to L24) is not looked at here.
+"""
 
 import ast
 import builtins
