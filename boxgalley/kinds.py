@@ -12,3 +12,7 @@ def is_between(thing, least, most):
 
 def is_tuple_of(thing, many):
     return isinstance(thing, tuple) and len(thing) == many
+
+
+def is_list_of(thing, many):
+    return isinstance(thing, list) and len(thing) == many

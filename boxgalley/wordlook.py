@@ -1,6 +1,6 @@
 """The small checker of rows."""
 
-from boxgalley.kinds import is_tuple_of, is_whole
+from boxgalley.kinds import is_list_of, is_tuple_of, is_whole
 from boxgalley.words import Setting
 
 
@@ -17,11 +17,11 @@ def is_entry(thing):
 
 
 def are_entries(thing, many):
-    return isinstance(thing, list) and len(thing) == many and all([is_entry(entry) for entry in thing])
+    return is_list_of(thing, many) and all([is_entry(entry) for entry in thing])
 
 
 def is_table(thing, many, wide):
-    return isinstance(thing, list) and len(thing) == many and all([are_entries(entries, wide) for entries in thing])
+    return is_list_of(thing, many) and all([are_entries(entries, wide) for entries in thing])
 
 
 def triples_set(setting, many, triples):

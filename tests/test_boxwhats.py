@@ -3,7 +3,7 @@
 import copy
 import unittest
 
-from boxgalley.kinds import is_between, is_tuple_of, is_whole
+from boxgalley.kinds import is_between, is_list_of, is_tuple_of, is_whole
 from boxgalley.overtree import is_anchor, is_over_what
 from boxgalley.wordtree import is_flow_what, is_joint, is_piece, is_side, is_word, is_words, is_words_what
 
@@ -31,6 +31,11 @@ class Kinds(unittest.TestCase):
         self.assertIs(is_tuple_of((1, 2), 2), True)
         for thing in ([1, 2], (1,), (1, 2, 3), "ab", None):
             self.assertIs(is_tuple_of(thing, 2), False)
+
+    def test_lists(self):
+        self.assertIs(is_list_of([1, 2], 2), True)
+        for thing in ((1, 2), [1], [1, 2, 3], "ab", None, {1: 2, 3: 4}):
+            self.assertIs(is_list_of(thing, 2), False)
 
 
 class Pieces(unittest.TestCase):
