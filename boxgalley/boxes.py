@@ -1,7 +1,7 @@
 """What a box is, and which boxes a tree has."""
 
-from boxgalley.kinds import is_between, is_tuple_of
 from boxgalley.overtree import is_over_what
+from boxgalley.things import is_between, is_tuple_of
 from boxgalley.wordtree import is_flow_what, is_side, is_words_what
 
 NAME_LONGEST = 8

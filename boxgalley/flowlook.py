@@ -1,7 +1,7 @@
 """The small checker of floats."""
 
 from boxgalley.flows import edges_at, left_end, place_across, right_end, touches, touching
-from boxgalley.kinds import is_list_of, is_tuple_of, is_whole
+from boxgalley.things import is_list_of, is_tuple_of, is_whole
 
 
 def is_placed(thing, name, wide, high):

@@ -1,6 +1,6 @@
 """Which what a box over has, and what is none."""
 
-from boxgalley.kinds import is_between, is_tuple_of
+from boxgalley.things import is_between, is_tuple_of
 
 ANCHOR_WORDS = ("start", "mid", "mid2", "end")
 ANCHOR_FARTHEST = 1000000

@@ -1,9 +1,9 @@
 """What a tree is, its boxes in their order, and which box lies in which."""
 
-from boxgalley.boxes import alike_of, boxes_in, is_box, is_name, kind_of, name_of, parts_of, what_of
-from boxgalley.cells import put_cells, rows_taken
+from boxgalley.boxes import alike_of, boxes_in, is_box, is_name, kind_of, name_of, parts_of
 from boxgalley.errors import BadBox
-from boxgalley.kinds import is_tuple_of
+from boxgalley.tables import table_rows
+from boxgalley.things import is_tuple_of
 
 BOXES_MOST = 60
 DEEPEST = 8
@@ -19,11 +19,6 @@ def name_told(thing):
 
 def may_be_alike(box, in_table):
     return kind_of(box) in ALIKE_KINDS and not in_table
-
-
-def table_rows(table):
-    spans = what_of(table)[3]
-    return rows_taken(put_cells(what_of(table)[0], spans), spans)
 
 
 def is_amiss(thing, depth, in_table, names):

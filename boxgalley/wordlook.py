@@ -1,6 +1,6 @@
 """The small checker of rows."""
 
-from boxgalley.kinds import is_list_of, is_tuple_of, is_whole
+from boxgalley.things import is_list_of, is_tuple_of, is_whole
 from boxgalley.words import Setting
 
 

@@ -1,6 +1,6 @@
 """Which what a box words or flow has, and what is none."""
 
-from boxgalley.kinds import is_between, is_tuple_of
+from boxgalley.things import is_between, is_tuple_of
 
 SIDES = ("left", "right")
 JOINT_MOST = 999

@@ -3,8 +3,8 @@
 import copy
 import unittest
 
-from boxgalley.kinds import is_between, is_list_of, is_tuple_of, is_whole
 from boxgalley.overtree import is_anchor, is_over_what
+from boxgalley.things import is_between, is_list_of, is_tuple_of, is_whole
 from boxgalley.wordtree import is_flow_what, is_joint, is_piece, is_side, is_word, is_words, is_words_what
 
 # Of all the kinds that a tree may be made of.
@@ -15,7 +15,7 @@ THINGS = (
 )
 
 
-class Kinds(unittest.TestCase):
+class Things(unittest.TestCase):
     def test_whole_numbers(self):
         for thing in (0, 1, -1, 10 ** 30):
             self.assertIs(is_whole(thing), True)
